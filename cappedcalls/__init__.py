@@ -1,0 +1,1 @@
+"""Programs over services that return a bounded number of rows."""

@@ -1,0 +1,126 @@
+"""The rules of shared/LANGUAGE.md that can be read off the files of the package."""
+
+import ast
+import pathlib
+import re
+import unittest
+
+PACKAGE = pathlib.Path(__file__).resolve().parent.parent / "cappedcalls"
+FILES = sorted(path for path in PACKAGE.rglob("*") if path.is_file() and "__pycache__" not in path.parts)
+LIBRARY = {
+    "__future__": {"annotations"},
+    "heapq": {"heappush", "heappop", "heapify", "heapreplace", "heappushpop"},
+    "math": {"gcd", "lcm", "isqrt", "comb", "perm", "factorial"},
+    "itertools": {"product", "combinations", "permutations", "chain", "accumulate", "pairwise",
+                  "islice", "zip_longest"},
+    "collections": {"defaultdict", "deque"},
+}
+DECORATORS = {"property", "staticmethod", "classmethod"}
+BARRED = {"open", "input", "eval", "exec", "compile", "globals", "locals", "vars", "dir", "id", "hash",
+          "print", "chr", "format", "round", "filter", "callable", "object", "float", "complex", "slice",
+          "memoryview", "bytearray", "issubclass", "help", "delattr", "sort", "register", "elements"}
+
+
+def trees():
+    for path in FILES:
+        yield path.name, ast.parse(path.read_text(encoding="ascii"))
+
+
+def imports_of(tree):
+    return [node for node in ast.walk(tree) if isinstance(node, (ast.Import, ast.ImportFrom))]
+
+
+class FilesTest(unittest.TestCase):
+    def test_the_folder_holds_plain_files_of_python_only(self):
+        self.assertIn(PACKAGE / "__init__.py", FILES)
+        for path in FILES:
+            self.assertRegex(path.name, r"^([a-z][a-z0-9_]*|__init__|__main__)\.py$")
+
+    def test_characters(self):
+        for path in FILES:
+            for character in path.read_bytes():
+                self.assertTrue(character == 10 or 32 <= character <= 126, (path.name, character))
+
+    def test_sizes(self):
+        for path in FILES:
+            lines = path.read_text(encoding="ascii").split("\n")
+            self.assertLessEqual(len(lines), 399, path.name)
+            for line in lines:
+                self.assertLessEqual(len(line), 120, path.name)
+
+    def test_functions_have_at_most_40_lines(self):
+        for name, tree in trees():
+            for node in ast.walk(tree):
+                if isinstance(node, ast.FunctionDef):
+                    self.assertLessEqual(node.end_lineno - node.lineno + 1, 40, (name, node.name))
+
+
+class ImportsTest(unittest.TestCase):
+    def test_forms(self):
+        for name, tree in trees():
+            for node in imports_of(tree):
+                self.assertIsInstance(node, ast.ImportFrom, name)
+                self.assertEqual(node.level, 0, name)
+                self.assertIn(node, tree.body, name)
+                if not node.module.startswith("cappedcalls."):
+                    self.assertLessEqual({one.name for one in node.names}, LIBRARY[node.module], name)
+
+    def test_the_file_named_defines_the_name(self):
+        defined = {}
+        for name, tree in trees():
+            found = {node.name for node in tree.body if isinstance(node, (ast.FunctionDef, ast.ClassDef))}
+            for node in tree.body:
+                if isinstance(node, ast.Assign):
+                    found.update(target.id for target in node.targets)
+            defined["cappedcalls." + name[:-3]] = found
+        for name, tree in trees():
+            for node in imports_of(tree):
+                if node.module.startswith("cappedcalls."):
+                    self.assertLessEqual({one.name for one in node.names}, defined[node.module], name)
+
+    def test_no_circle(self):
+        uses = {}
+        for name, tree in trees():
+            uses["cappedcalls." + name[:-3]] = {node.module for node in imports_of(tree)} - set(LIBRARY)
+        while uses:
+            free = [name for name, used in uses.items() if not used & set(uses)]
+            self.assertTrue(free, f"these files import from each other: {sorted(uses)}")
+            for name in free:
+                del uses[name]
+
+
+class CodeTest(unittest.TestCase):
+    def test_decorators(self):
+        for name, tree in trees():
+            for node in ast.walk(tree):
+                for decorator in getattr(node, "decorator_list", []):
+                    self.assertIn(re.sub(r"^\w+\.setter$", "property", ast.unparse(decorator)), DECORATORS, name)
+
+    def test_no_floats_and_no_division(self):
+        for name, tree in trees():
+            for node in ast.walk(tree):
+                self.assertNotIsInstance(node, ast.Div, name)
+                self.assertNotIsInstance(getattr(node, "value", None), (float, complex), name)
+
+    def test_barred_words(self):
+        for name, tree in trees():
+            for node in ast.walk(tree):
+                self.assertNotIn(getattr(node, "id", getattr(node, "attr", None)), BARRED, name)
+
+    def test_module_level(self):
+        allowed = (ast.ImportFrom, ast.FunctionDef, ast.ClassDef, ast.Assign)
+        for name, tree in trees():
+            for node in tree.body:
+                text = isinstance(node, ast.Expr) and isinstance(node.value, ast.Constant)
+                self.assertTrue(text or isinstance(node, allowed), name)
+
+    def test_raised_errors_are_made_on_the_spot(self):
+        for name, tree in trees():
+            for node in ast.walk(tree):
+                if isinstance(node, ast.Raise) and node.exc is not None:
+                    self.assertIsInstance(node.exc, ast.Call, name)
+                    self.assertIsInstance(node.exc.func, ast.Name, name)
+
+
+if __name__ == "__main__":
+    unittest.main()
