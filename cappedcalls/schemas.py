@@ -1,6 +1,6 @@
 """Schemas: tables with their keys, and the services that read them."""
 
-from cappedcalls.errors import InvalidSchema, UnknownName
+from cappedcalls.errors import InvalidSchema, SchemaMismatch, UnknownName
 from cappedcalls.values import is_plain_int, is_word
 
 MOST_TABLES = 5
@@ -158,3 +158,9 @@ class Schema:
             table, given, _ = self.service_of(name)
             services[name] = (table, given, None)
         return Schema(self._tables, self._keys, services)
+
+
+def check_same(one, other):
+    """Raise SchemaMismatch if two schemas are not equal."""
+    if one != other:
+        raise SchemaMismatch()

@@ -24,6 +24,16 @@ def is_value(thing):
     return is_word(thing)
 
 
+def are_values(thing, many):
+    """Return True if the thing is a tuple of exactly so many values."""
+    return isinstance(thing, tuple) and len(thing) == many and all([is_value(part) for part in thing])
+
+
+def columns_of(row, columns):
+    """Return the tuple of the parts of a tuple at these columns, in their order."""
+    return tuple([row[column] for column in columns])
+
+
 def row_key(row):
     """Return a key for a tuple of values, by which Python sorts it as the document asks.
 

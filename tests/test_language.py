@@ -1,6 +1,7 @@
 """The rules of shared/LANGUAGE.md that can be read off the files of the package."""
 
 import ast
+import builtins
 import pathlib
 import re
 import unittest
@@ -19,6 +20,10 @@ DECORATORS = {"property", "staticmethod", "classmethod"}
 BARRED = {"open", "input", "eval", "exec", "compile", "globals", "locals", "vars", "dir", "id", "hash",
           "print", "chr", "format", "round", "filter", "callable", "object", "float", "complex", "slice",
           "memoryview", "bytearray", "issubclass", "help", "delattr", "sort", "register", "elements"}
+DUNDERS = {"__init__", "__eq__", "__len__", "__call__", "__iter__", "__or__", "__and__", "__contains__",
+           "__getitem__", "__setitem__"}
+METHODS = {"append", "clear", "copy", "count", "extend", "find", "get", "index", "insert", "items", "join", "keys",
+           "pop", "remove", "setdefault", "split", "startswith", "values", "isdigit"}
 
 
 def trees():
@@ -120,6 +125,56 @@ class CodeTest(unittest.TestCase):
                 if isinstance(node, ast.Raise) and node.exc is not None:
                     self.assertIsInstance(node.exc, ast.Call, name)
                     self.assertIsInstance(node.exc.func, ast.Name, name)
+
+    def test_no_generator_expressions_sets_and_annotations(self):
+        for name, tree in trees():
+            for node in ast.walk(tree):
+                self.assertNotIsInstance(node, (ast.GeneratorExp, ast.Set, ast.SetComp, ast.AnnAssign), name)
+                self.assertIsNone(getattr(node, "annotation", None), name)
+                self.assertIsNone(getattr(node, "returns", None), name)
+
+    def test_the_underscore_is_never_read(self):
+        for name, tree in trees():
+            for node in ast.walk(tree):
+                if isinstance(node, ast.Name) and isinstance(node.ctx, ast.Load):
+                    self.assertNotEqual(node.id, "_", name)
+
+    def test_no_name_of_a_builtin_and_of_an_import_is_given_another_meaning(self):
+        for name, tree in trees():
+            imported = {one.name for node in imports_of(tree) for one in node.names}
+            classes = {node.name for node in tree.body if isinstance(node, ast.ClassDef)}
+            for node in ast.walk(tree):
+                own = getattr(node, "arg", None) if isinstance(node, ast.arg) else None
+                if isinstance(node, ast.Name) and isinstance(node.ctx, ast.Store):
+                    own = node.id
+                self.assertNotIn(own, imported | classes | set(dir(builtins)), name)
+                if isinstance(node, (ast.FunctionDef, ast.ClassDef)):
+                    self.assertNotIn(node.name, dir(builtins), name)
+
+    def test_methods(self):
+        own = {node.name for _, tree in trees() for node in ast.walk(tree) if isinstance(node, ast.FunctionDef)}
+        for name, tree in trees():
+            for node in ast.walk(tree):
+                if isinstance(node, ast.Call) and isinstance(node.func, ast.Attribute):
+                    self.assertIn(node.func.attr, METHODS | own, name)
+
+    def test_double_underscores(self):
+        for name, tree in trees():
+            for node in ast.walk(tree):
+                if isinstance(node, ast.FunctionDef) and node.name.startswith("__"):
+                    self.assertIn(node.name, DUNDERS, name)
+                if isinstance(node, ast.ClassDef):
+                    found = {one.name for one in node.body if isinstance(one, ast.FunctionDef)}
+                    self.assertTrue("__iter__" in found or "__getitem__" not in found, node.name)
+
+    def test_only_own_errors_are_caught(self):
+        own = {node.name for name, tree in trees() if name == "errors.py" for node in tree.body
+               if isinstance(node, ast.ClassDef)}
+        for name, tree in trees():
+            for node in ast.walk(tree):
+                if isinstance(node, ast.ExceptHandler):
+                    caught = node.type.elts if isinstance(node.type, ast.Tuple) else [node.type]
+                    self.assertLessEqual({one.id for one in caught}, own | {"KeyError"}, name)
 
 
 if __name__ == "__main__":
