@@ -1,10 +1,10 @@
 """The hiding store of a full part, with its helping and its hiding choice."""
 
-from cappedcalls.matching import matched_heads
+from cappedcalls.matching import has_match
 from cappedcalls.programs import items_of
 from cappedcalls.stores import Store
-from cappedcalls.terms import part_variables, placed_part, unified
-from cappedcalls.values import columns_of
+from cappedcalls.terms import part_variables, placed_part
+from cappedcalls.values import columns_of, spare_numbers
 
 # A full part has at most 4 atoms of at most 4 terms. Each of them may bring
 # a call of a capped service, and with it as many new rows as its cap.
@@ -13,12 +13,11 @@ MOST_NEW_ROWS = 16
 MOST_COLUMNS = 4
 
 
-def _spare_numbers(program):
+def _numbers_for(program):
     """Return integers that stand nowhere in the program, enough for a hiding store."""
-    many = MOST_VARIABLES + MOST_NEW_ROWS * MOST_COLUMNS
     taken = {item[0]: True for step in program.step_list() for item in items_of(step)
              if isinstance(item, tuple)}
-    return [number for number in range(many + len(taken)) if number not in taken][:many]
+    return spare_numbers(taken, MOST_VARIABLES + MOST_NEW_ROWS * MOST_COLUMNS)
 
 
 def _rows_by_table(schema, atoms):
@@ -59,7 +58,7 @@ class Hiding:
 
     def __init__(self, program, part):
         schema = program.schema
-        numbers = _spare_numbers(program)
+        numbers = _numbers_for(program)
         self.schema = schema
         self.head, atoms = placed_part(part, dict(zip(part_variables(part), numbers)))
         self.rows = _rows_by_table(schema, atoms)
@@ -94,8 +93,7 @@ class Hiding:
     def shows_head(self, parts):
         """Return True if by the hiding choice one of the unfolded parts has the head."""
         shown = self._shown_rows()
-        for head, atoms in parts:
-            places = unified(list(zip(head, self.head)))
-            if places is not None and matched_heads(placed_part(((), atoms), places), shown):
+        for part in parts:
+            if has_match(part, self.head, shown):
                 return True
         return False

@@ -1,14 +1,17 @@
 """Matches: the ways to give the variables of a part values so that its atoms become rows.
 
 The atoms are gone through one after another. Of the matches of those that are
-behind, only the variables are kept that the head or an atom to come has: so
-two matches that differ in nothing that counts are one.
+behind, only the variables are kept that are wanted or that an atom to come
+has: so two matches that differ in nothing that counts are one.
+
+A row may also have terms in the place of values: then a part is matched with
+the atoms of another part. The two may have variables of the same numbers.
 """
 
 from cappedcalls.terms import atom_variables, placed, term_variables
 
 
-def _match(terms, row):
+def match_of(terms, row):
     """Return the values of the variables by which the terms become the row, or None."""
     places = {}
     for term, value in zip(terms, row):
@@ -27,7 +30,7 @@ def _matches_by(shared, wanted, terms, rows):
     """Return the different values of the wanted variables, by the values of the shared ones."""
     found = {}
     for row in rows:
-        places = _match(terms, row)
+        places = match_of(terms, row)
         if places is not None:
             alike = found.setdefault(placed(shared, places), {})
             alike[placed(wanted, places)] = True
@@ -50,15 +53,45 @@ def _extended(matches, bound, terms, rows, needed):
     return kept + new, list(found)
 
 
-def matched_heads(part, rows):
-    """Return the different heads of the matches of a part; rows has the rows of each name of an atom."""
-    head, atoms = part
+def _matched(places, atoms, wanted, rows):
+    """Return what the wanted terms may become by the matches of some atoms that agree with places."""
     rest = list(atoms)
-    bound = []
-    matches = [()]
+    bound = list(places)
+    matches = [placed(bound, places)]
     while rest and matches:
         name, terms = _next_atom(rest, bound)
         rest.remove((name, terms))
-        needed = term_variables([*head, *atom_variables(rest)])
+        needed = term_variables([*wanted, *atom_variables(rest)])
         bound, matches = _extended(matches, bound, terms, rows[name], needed)
-    return [placed(head, dict(zip(bound, match))) for match in matches]
+    return [placed(wanted, dict(zip(bound, match))) for match in matches]
+
+
+def matched_heads(part, rows):
+    """Return the different heads of the matches of a part; rows has the rows of each name of an atom."""
+    head, atoms = part
+    return _matched({}, atoms, head, rows)
+
+
+def has_match(part, head, rows):
+    """Return True if a part has a match by which its head becomes this head."""
+    terms, atoms = part
+    places = match_of(terms, head)
+    return places is not None and len(_matched(places, atoms, (), rows)) > 0
+
+
+def first_match(part, head, rows):
+    """Return what all variables of a part become by one such match, or None if there is none."""
+    terms, atoms = part
+    places = match_of(terms, head)
+    rest = list(atoms)
+    while rest and places is not None:
+        # There may be far too many matches to make them all: so atom after
+        # atom is bound to what leaves a match for the others.
+        new = [variable for variable in term_variables(rest[0][1]) if variable not in places]
+        found = _matched(places, rest, new, rows)
+        if not found:
+            return None
+        for variable, term in zip(new, found[0]):
+            places[variable] = term
+        rest = rest[1:]
+    return places

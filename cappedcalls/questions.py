@@ -56,7 +56,8 @@ def _check_question(schema, width, parts):
             raise InvalidQuestion(wrong, at)
 
 
-def _check_alike(one, other):
+def check_same_width(one, other):
+    """Raise SchemaMismatch or WidthMismatch if two questions or programs cannot be compared."""
     check_same(one.schema, other.schema)
     if one.width != other.width:
         raise WidthMismatch()
@@ -90,11 +91,11 @@ class Question:
         return [(head, list(atoms)) for head, atoms in self._parts]
 
     def __or__(self, other):
-        _check_alike(self, other)
+        check_same_width(self, other)
         return Question(self.schema, self.width, self.part_list() + other.part_list())
 
     def __and__(self, other):
-        _check_alike(self, other)
+        check_same_width(self, other)
         ours = self.part_list()
         theirs = other.part_list()
         _check_both(ours, theirs)

@@ -15,16 +15,24 @@ def _read_as_tables(part, schema):
     return head, list(different)
 
 
-def steady(program):
-    """Return the question that a steady program answers, or what shows that it is not steady."""
+def judged(program):
+    """Return the question of a steady program and None, or None and the Hiding that shows that it is not steady."""
     schema = program.schema
     parts = unfolded(program)
     full = full_parts(program)
     for part in full:
         hiding = Hiding(program, part)
         if not hiding.shows_head(parts):
-            return "unsteady", hiding.made_store(), hiding.helping, hiding.hiding
-    return "steady", Question(schema, program.width, [_read_as_tables(part, schema) for part in full])
+            return None, hiding
+    return Question(schema, program.width, [_read_as_tables(part, schema) for part in full]), None
+
+
+def steady(program):
+    """Return the question that a steady program answers, or what shows that it is not steady."""
+    question, hiding = judged(program)
+    if question is None:
+        return "unsteady", hiding.made_store(), hiding.helping, hiding.hiding
+    return "steady", question
 
 
 def is_steady(program):

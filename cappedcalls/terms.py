@@ -35,6 +35,12 @@ def part_variables(part):
     return term_variables([*head, *atom_variables(atoms)])
 
 
+def part_values(parts):
+    """Return a dict whose keys are the values that stand in some parts."""
+    rows = [row for head, atoms in parts for row in [head, *[terms for _, terms in atoms]]]
+    return {term: True for row in rows for term in row if not isinstance(term, tuple)}
+
+
 def placed(terms, places):
     """Return the tuple of the terms, with each variable that has a place replaced by it."""
     return tuple([places.get(term, term) for term in terms])

@@ -47,3 +47,8 @@ def sorted_rows(rows):
     """Return the tuples of values in a list, sorted and without duplicates."""
     different = {row: True for row in rows}
     return sorted(list(different), key=row_key)
+
+
+def spare_numbers(taken, many):
+    """Return so many integers from 0 on that are no keys of a dict."""
+    return [number for number in range(many + len(taken)) if number not in taken][:many]

@@ -2,8 +2,9 @@
 
 import itertools
 
-from cappedcalls.answers import each_answer
-from cappedcalls.errors import InvalidProgram, InvalidSchema, InvalidStore
+from cappedcalls.answers import Answers, each_answer
+from cappedcalls.errors import CappedError, InvalidProgram, InvalidSchema, InvalidStore
+from cappedcalls.logs import Log
 from cappedcalls.programs import Program
 from cappedcalls.questions import Question
 from cappedcalls.schemas import Schema
@@ -159,3 +160,106 @@ def relations_the_long_way(program, answers):
             origin, items = rest
             found[to] = {tuple(item_of(item, row) for item in items) for row in found[origin]}
     return found
+
+
+def joined_the_long_way(part, schema):
+    """Return the set of the pairs of terms of a part that are joined (point 46)."""
+    head, atoms = part
+    terms = [*head, *[term for _, row in atoms for term in row]]
+    joined = {(term, term) for term in terms}
+    while True:
+        more = joined | {(other, one) for one, other in joined}
+        more |= {(one, last) for one, middle in joined for other, last in joined if middle == other}
+        for (table, one), (place, other) in itertools.product(atoms, repeat=2):
+            key = schema.key_of(table)
+            if table == place and key is not None and all((one[at], other[at]) in joined for at in key):
+                more |= set(zip(one, other))
+        if more == joined:
+            return joined
+        joined = more
+
+
+def is_void_the_long_way(part, schema):
+    return any(one != other and not isinstance(one, tuple) and not isinstance(other, tuple)
+               for one, other in joined_the_long_way(part, schema))
+
+
+def is_term_the_long_way(thing):
+    if isinstance(thing, tuple):
+        return len(thing) == 1 and type(thing[0]) is int and 0 <= thing[0] < 10 ** 30
+    if type(thing) is int:
+        return abs(thing) < 10 ** 30
+    return type(thing) is str and 1 <= len(thing) <= 8 and set(thing) <= set("abcdefghijklmnopqrstuvwxyz")
+
+
+def is_entry_the_long_way(entry, part, others, schema):
+    """Return True if an entry of a paper is right for a part (point 49)."""
+    joined = joined_the_long_way(part, schema)
+    if is_void_the_long_way(part, schema):
+        return type(entry) is tuple and entry == ("void",)
+    if type(entry) is not tuple or len(entry) != 2 or type(entry[0]) is not int or entry[0] not in range(len(others)):
+        return False
+    head, atoms = others[entry[0]]
+    places = entry[1]
+    variables = {term for row in [head, *[terms for _, terms in atoms]] for term in row if isinstance(term, tuple)}
+    if type(places) is not dict or {repr(key) for key in places} != {repr(key) for key in variables}:
+        return False
+    if not all(is_term_the_long_way(places[key]) for key in places):
+        return False
+
+    def are_joined(terms, row):
+        there = [places[term] if isinstance(term, tuple) else term for term in terms]
+        return all(one == other or (one, other) in joined for one, other in zip(there, row))
+
+    has_atoms = all(any(table == place and are_joined(terms, row) for place, row in part[1]) for table, terms in atoms)
+    return has_atoms and are_joined(head, part[0])
+
+
+def noted_log(schema, calls):
+    log = Log(schema)
+    for service, given, rows in calls:
+        log.note(service, given, rows)
+    return log
+
+
+def random_log(random, schema, most=4, values=tuple(VALUES)):
+    """Return a log of some calls over a random store, some of which no row fits."""
+    store = random_store(random, schema, most, values)
+    answers = Answers(store, random_choices(random, store))
+    log = Log(schema)
+    calls = calls_that_fit(store)
+    for service, (_, given, _) in schema.services.items():
+        calls.append((service, tuple(random.choice(values) for _ in given)))
+    for service, given in random.sample(calls, random.randint(0, min(5, len(calls)))):
+        log.note(service, given, answers(service, given))
+    return log
+
+
+def is_possible_the_long_way(log, store):
+    """Return True if a store has all known rows and no other one that fits a complete call (point 59)."""
+    for service, given, rows in log.call_list():
+        table, columns, cap = log.schema.service_of(service)
+        if not set(rows) <= set(store[table]):
+            return False
+        fitting = {row for row in store[table] if tuple(row[at] for at in columns) == given}
+        if (log.schema.is_whole(service) or len(rows) < cap) and fitting != set(rows):
+            return False
+    return True
+
+
+def each_possible_store(log, values, most):
+    """Yield each possible store that has at most so many rows of these values that are not known."""
+    known = log.known_store()
+    new = [(table, row) for table, width in log.schema.tables.items()
+           for row in itertools.product(values, repeat=width) if (table, row) not in known]
+    for many in range(most + 1):
+        for places in itertools.combinations(new, many):
+            rows = {}
+            for table, row in places:
+                rows.setdefault(table, []).append(row)
+            try:
+                store = known | Store(log.schema, rows)
+            except CappedError:
+                continue
+            if is_possible_the_long_way(log, store):
+                yield store
