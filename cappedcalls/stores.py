@@ -1,6 +1,6 @@
 """Stores: the rows of the tables of a schema."""
 
-from cappedcalls.errors import InvalidCall, InvalidStore, LimitExceeded, UnknownName
+from cappedcalls.errors import InvalidCall, InvalidStore, LimitExceeded
 from cappedcalls.schemas import check_same
 from cappedcalls.values import are_values, columns_of, sorted_rows
 
@@ -44,8 +44,8 @@ class Store:
                          for name, (table, given, _) in schema.services.items()}
 
     def __getitem__(self, table):
-        if table not in self._rows:
-            raise UnknownName(table)
+        # It raises what the name of no table raises.
+        self.schema.width_of(table)
         return list(self._rows[table])
 
     def __iter__(self):

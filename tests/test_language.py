@@ -112,6 +112,73 @@ class CodeTest(unittest.TestCase):
             for node in ast.walk(tree):
                 self.assertNotIn(getattr(node, "id", getattr(node, "attr", None)), BARRED, name)
 
+    def test_behind_stars_in_calls_stand_plain_things_only(self):
+        plain = (ast.Name, ast.Attribute, ast.Constant, ast.List, ast.Tuple, ast.Dict)
+        for name, tree in trees():
+            for node in ast.walk(tree):
+                if isinstance(node, ast.Call):
+                    stars = [one.value for one in node.args if isinstance(one, ast.Starred)]
+                    stars += [one.value for one in node.keywords if one.arg is None]
+                    for one in stars:
+                        self.assertIsInstance(one, plain, (name, node.lineno))
+
+    def test_finally(self):
+        def check(name, rows):
+            for row in rows:
+                if isinstance(row, ast.If):
+                    self.assertIsInstance(row.test, ast.Compare, name)
+                    self.assertIsInstance(row.test.ops[0], (ast.Is, ast.IsNot), name)
+                    check(name, row.body + row.orelse)
+                else:
+                    self.assertIsInstance(row, ast.Assign, name)
+                    for node in ast.walk(row.value):
+                        self.assertIsInstance(node, (ast.Name, ast.Attribute, ast.Tuple, ast.Constant, ast.Load), name)
+
+        for name, tree in trees():
+            for node in ast.walk(tree):
+                if isinstance(node, ast.Try):
+                    check(name, node.finalbody)
+
+    def test_functions_of_a_table_are_given_a_name_before_they_are_called(self):
+        for name, tree in trees():
+            for node in ast.walk(tree):
+                if isinstance(node, ast.Call):
+                    self.assertIsInstance(node.func, (ast.Name, ast.Attribute), (name, node.lineno))
+
+    def test_lists_and_dicts_at_module_level_are_only_read(self):
+        for name, tree in trees():
+            own = {target.id for node in tree.body if isinstance(node, ast.Assign) for target in node.targets
+                   if isinstance(node.value, (ast.List, ast.Dict))}
+            for node in ast.walk(tree):
+                if isinstance(node, ast.Call):
+                    for one in node.args:
+                        self.assertFalse(isinstance(one, ast.Name) and one.id in own, (name, node.lineno))
+                if isinstance(node, ast.Return):
+                    self.assertFalse(isinstance(node.value, ast.Name) and node.value.id in own, (name, node.lineno))
+
+    def test_words_that_stand_nowhere(self):
+        for path in FILES:
+            text = path.read_text(encoding="ascii")
+            for word in ["(type)", "Meta", "metaclass=", "dataclass", "overload", "contextmanager", "_wall", "typing"]:
+                self.assertNotIn(word, text, path.name)
+            for word in ["type", "enum", "law", "namedtuple", "Generic", "Protocol"]:
+                self.assertNotRegex(text, rf"\b{word}\b", path.name)
+
+    def test_no_percent_sign_in_a_string(self):
+        for name, tree in trees():
+            for node in ast.walk(tree):
+                if isinstance(node, ast.Constant) and isinstance(node.value, str):
+                    self.assertNotIn("%", node.value, name)
+
+    def test_a_name_is_no_method_and_attribute_of_one_class(self):
+        for name, tree in trees():
+            for node in ast.walk(tree):
+                if isinstance(node, ast.ClassDef):
+                    methods = {one.name for one in node.body if isinstance(one, ast.FunctionDef)}
+                    stored = {one.attr for one in ast.walk(node)
+                              if isinstance(one, ast.Attribute) and isinstance(one.ctx, ast.Store)}
+                    self.assertFalse(methods & stored, (name, node.name))
+
     def test_module_level(self):
         allowed = (ast.ImportFrom, ast.FunctionDef, ast.ClassDef, ast.Assign)
         for name, tree in trees():
