@@ -90,12 +90,13 @@ def read_schema(lines):
     found = {"table": {}, "key": {}, "service": {}}
     latest = 0
     for at, line in enumerate(lines):
-        kind, *words = line.split(" ")
-        name, *things = _read_at(at, _SCHEMA_FORMS.get(kind), words)
-        if _KINDS.index(kind) < latest or name in found[kind]:
+        words = line.split(" ")
+        kind = words[0]
+        things = _read_at(at, _SCHEMA_FORMS.get(kind), words[1:])
+        if _KINDS.index(kind) < latest or things[0] in found[kind]:
             raise InvalidLine(at)
         latest = _KINDS.index(kind)
-        found[kind][name] = things
+        found[kind][things[0]] = things[1:]
     tables = {name: width for name, (width,) in found["table"].items()}
     keys = {name: tuple(columns) for name, columns in found["key"].items()}
     services = {name: (table, tuple(given), None if cap == "all" else cap)
@@ -107,8 +108,8 @@ def read_store(schema, lines):
     """Return the store over a schema that the lines say."""
     rows = {}
     for at, line in enumerate(lines):
-        table, *values = _read_at(at, _ROW_FORM, line.split(" "))
-        rows.setdefault(table, []).append(tuple(values))
+        things = _read_at(at, _ROW_FORM, line.split(" "))
+        rows.setdefault(things[0], []).append(tuple(things[1:]))
     return Store(schema, rows)
 
 
@@ -122,8 +123,8 @@ def read_program(schema, lines):
     """Return the program over a schema that the lines say."""
     steps = []
     for at, line in enumerate(lines):
-        kind, *words = line.split(" ")
-        steps.append(_step(kind, _read_at(at, _PROGRAM_FORMS.get(kind), words)))
+        words = line.split(" ")
+        steps.append(_step(words[0], _read_at(at, _PROGRAM_FORMS.get(words[0]), words[1:])))
     return Program(schema, steps)
 
 
@@ -132,8 +133,9 @@ def read_question(schema, lines):
     width = None
     parts = []
     for at, line in enumerate(lines):
-        kind, *words = line.split(" ")
-        things = _read_at(at, _QUESTION_FORMS.get(kind), words)
+        words = line.split(" ")
+        kind = words[0]
+        things = _read_at(at, _QUESTION_FORMS.get(kind), words[1:])
         if (kind == "question") != (at == 0) or (kind == "atom" and not parts):
             raise InvalidLine(at)
         if kind == "question":

@@ -1,7 +1,7 @@
 """The parts of a program: unfolded step by step, and made full by keys and caps."""
 
 from cappedcalls.programs import item_values
-from cappedcalls.terms import part_variables, placed_part, renumbered, united
+from cappedcalls.terms import part_variables, renumbered, united
 from cappedcalls.values import columns_of
 
 

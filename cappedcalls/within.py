@@ -5,8 +5,7 @@ from cappedcalls.matching import first_match, has_match
 from cappedcalls.placing import may_be_placed, parts_by_mark, placed_index
 from cappedcalls.questions import Question, check_same_width
 from cappedcalls.stores import Store
-from cappedcalls.terms import (atom_variables, is_term, is_variable, part_values, part_variables, placed, placed_part,
-                               renumbered, term_variables)
+from cappedcalls.terms import is_term, is_variable, part_values, part_variables, placed_part, renumbered
 from cappedcalls.values import is_plain_int, spare_numbers
 
 
@@ -73,7 +72,7 @@ def _is_right(entry, part, parts, schema):
     """Return True if an entry of a paper is right for a part."""
     joined = joined_places(part[1], schema)
     if joined is None:
-        return isinstance(entry, tuple) and entry == ("void",)
+        return entry == ("void",)
     if not _has_form(entry, parts):
         return False
     at, places = entry
@@ -116,9 +115,8 @@ def _with_needed_atoms(part, schema):
     head, needed = part
     for atom in part[1]:
         fewer = [one for one in needed if one != atom]
-        bound = atom_variables(fewer)
-        is_safe = all([variable in bound for variable in term_variables(head)])
-        if is_safe and has_match((head, needed), head, rows_of(fewer, schema)):
+        # The head stays as it is: so no variable of it loses its last atom.
+        if has_match((head, needed), head, rows_of(fewer, schema)):
             needed = fewer
     return head, needed
 

@@ -83,6 +83,12 @@ class ImportsTest(unittest.TestCase):
                 if node.module.startswith("cappedcalls."):
                     self.assertLessEqual({one.name for one in node.names}, defined[node.module], name)
 
+    def test_what_is_imported_is_used(self):
+        for name, tree in trees():
+            used = {node.id for node in ast.walk(tree) if isinstance(node, ast.Name)}
+            for node in imports_of(tree):
+                self.assertLessEqual({one.name for one in node.names}, used, name)
+
     def test_no_circle(self):
         uses = {}
         for name, tree in trees():

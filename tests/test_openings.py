@@ -220,6 +220,8 @@ class ReasonTest(unittest.TestCase):
             self.wrong((1,), (at, [(1, 2), (2, 3)]))
         self.wrong((7,), (3, []))
         self.wrong((7,), (-2, []))
+        self.wrong((9,), (-1, []))
+        self.right((9,), (3, []))
         self.wrong((1,), (False, [(1,)]))
 
     def test_a_row_less_and_a_row_more(self):

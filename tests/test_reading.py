@@ -7,7 +7,6 @@ import unittest
 from cappedcalls import reading as reading_module
 from cappedcalls.errors import InvalidLine, InvalidProgram, InvalidQuestion, InvalidSchema, InvalidStore, LimitExceeded
 from cappedcalls.programs import Program
-from cappedcalls.questions import Question
 from cappedcalls.reading import read_program, read_question, read_schema, read_store
 from cappedcalls.schemas import Schema
 from cappedcalls.stores import Store

@@ -288,6 +288,12 @@ class PaperTest(unittest.TestCase):
                        [((8,), X), (Z, X)], None, "a", ((8,), Z), {8: X, 2: X}]:
             self.wrong((1, places), void)
 
+    def test_a_variable_without_a_place_does_not_stand_for_itself(self):
+        one = asked(1, ((X,), [road(X, Y)]))
+        self.assertIs(is_paper(one, one, [(0, {X: X, Y: Y})]), True)
+        for places in [{}, {X: X}, {Y: Y}, {X: X, Z: Y}, {Z: X, Y: Y}, {X: X, Y: Y, Z: Z}]:
+            self.assertIs(is_paper(one, one, [(0, places)]), False, places)
+
     def test_keys_that_are_equal_to_a_variable_but_are_none(self):
         one = keyed(1, ((Y,), [road(5, Y)]))
         self.assertIs(is_paper(one, one, [(0, {Y: Y})]), True)
